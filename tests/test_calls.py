@@ -1,0 +1,172 @@
+"""How each function may be called: names, lists for tuples, and what is handed in stays as it was."""
+
+import copy
+import importlib
+import inspect
+import unittest
+
+from tests.kinds import in_lists, relisted
+from tests.samples import CROOK, CUBE, LOOP, PAIR, PILLOW, TWIN, WHEEL
+
+BELT = ((0, 0), (4, 0), (5, 3), (1, 3))
+HALF = ((0, 3), (2, 1), (4, 2))
+ROUND_TWIN = ((0, 1), (0, 2), (1, 0))
+SHUT = (((0, 0), (0, 1), (0, 2), (0, 3)),)
+
+# For each file of the interface: for each function its names of arguments, and some arguments for it.
+INTERFACE = {
+    "skins": {
+        "is_skin": (("thing",), [(CUBE,), (SHUT,)]),
+        "edges": (("skin",), [(PAIR,), (LOOP,)]),
+        "sewn_to": (("skin", "field", "side"), [(PAIR, 1, 3), (CUBE, 5, 0)]),
+        "neighbours": (("skin", "field"), [(PAIR, 0), (LOOP, 0)]),
+        "renamed": (("skin", "order", "turns"), [(TWIN, (1, 0), (0, 1)), (PAIR, (2, 0, 1), (3, 1, 2))]),
+        "alike": (("skin", "other"), [(TWIN, TWIN), (LOOP, TWIN), (PAIR, CROOK)]),
+        "least_form": (("skin",), [(TWIN,), (PAIR,)]),
+    },
+    "corners": {
+        "corners": (("skin",), [(CUBE,), (PAIR,)]),
+        "corner_at": (("skin", "field", "side"), [(CUBE, 5, 3), (TWIN, 0, 2)]),
+        "corners_of": (("skin", "field"), [(CUBE, 5), (TWIN, 0)]),
+        "between": (("skin", "crossing"), [(CUBE, (3, 2)), (TWIN, (0, 3))]),
+        "lacks": (("skin",), [(CUBE,), (PAIR,)]),
+        "sizes": (("skin",), [(CUBE,), (PAIR,)]),
+        "x_of": (("skin",), [(CUBE,), (PAIR,)]),
+    },
+    "rings": {
+        "is_ring": (("skin", "thing"), [(CUBE, BELT), (CUBE, BELT[:2])]),
+        "led": (("skin", "ring", "side"), [(CUBE, HALF, 3), (CUBE, BELT, 2)]),
+        "rest": (("skin", "ring"), [(CUBE, HALF), (CUBE, BELT)]),
+        "gone_back": (("skin", "ring"), [(CUBE, HALF), (TWIN, ROUND_TWIN)]),
+        "corner_ring": (("skin", "corner"), [(CUBE, 0), (PAIR, 0)]),
+        "put_behind": (("skin", "ring", "other"), [(CUBE, HALF, BELT), (LOOP, ((0, 1),), ((0, 0),))]),
+        "asked_most": (("ring",), [(BELT,), (HALF,)]),
+    },
+    "vanes": {
+        "are_vanes": (("skin", "thing"), [(TWIN, (0, 1)), (TWIN, (0, 2))]),
+        "laid_flat": (("skin", "crossing", "side"), [(CUBE, (0, 2), 3), (PILLOW, (0, 1), 1)]),
+        "step": (("skin", "vanes", "crossing"), [(TWIN, (0, 1), (1, 2)), (WHEEL, (0, 2), (0, 3))]),
+        "steps": (("skin", "vanes"), [(TWIN, (0, 1)), (WHEEL, (0, 2))]),
+        "turning": (("skin", "vanes", "ring"), [(WHEEL, (0, 2), ((0, 2), (1, 0))), (TWIN, (0, 1), ROUND_TWIN)]),
+        "all_turned": (("skin", "vanes", "number"), [(TWIN, (0, 1), 3), (WHEEL, (0, 2), -1)]),
+        "with_vane": (("skin", "vanes", "field", "side"), [(TWIN, (0, 1), 1, 0), (PILLOW, (0, 1), 0, 0)]),
+    },
+    "moves": {
+        "mirrored": (("skin",), [(PAIR,), (CROOK,)]),
+        "vanes_mirrored": (("skin", "vanes"), [(TWIN, (0, 1)), (WHEEL, (0, 2))]),
+        "ring_mirrored": (("skin", "ring"), [(TWIN, ROUND_TWIN), (CUBE, HALF)]),
+        "vanes_renamed": (("skin", "vanes", "order", "turns"), [(TWIN, (0, 1), (1, 0), (0, 1))]),
+        "can_sew": (("skin", "field", "other", "far"), [(PAIR, 2, CUBE, 0), (PAIR, 0, CUBE, 0)]),
+        "sewn_together": (("skin", "field", "other", "far", "turn"), [(PAIR, 0, PILLOW, 0, 3), (CUBE, 0, CUBE, 5, 2)]),
+    },
+    "trees": {
+        "field_tree": (("skin",), [(CUBE,), (LOOP,)]),
+        "corner_tree": (("skin",), [(CUBE,), (TWIN,)]),
+        "loose": (("skin",), [(TWIN,), (PAIR,)]),
+        "handle_rings": (("skin",), [(TWIN,), (PAIR,)]),
+        "handles": (("skin",), [(CUBE,), (PAIR,)]),
+        "way_to": (("skin", "field"), [(CUBE, 5), (CUBE, 0)]),
+    },
+}
+
+LISTS = ("edges", "field_tree", "corner_tree", "loose")
+
+
+def function_of(module, name):
+    return getattr(importlib.import_module("whirlskin." + module), name)
+
+
+def all_calls():
+    """Each (name, function, names of its arguments, arguments)."""
+    for module, functions in INTERFACE.items():
+        for name, (names, rows) in functions.items():
+            for values in rows:
+                yield name, function_of(module, name), names, values
+
+
+class Interface(unittest.TestCase):
+    def test_each_function_stands_in_its_file_with_its_arguments(self):
+        for module, functions in INTERFACE.items():
+            for name, (names, _) in functions.items():
+                with self.subTest(module=module, name=name):
+                    function = function_of(module, name)
+                    self.assertTrue(inspect.isfunction(function))
+                    self.assertEqual(function.__module__, "whirlskin." + module)
+                    self.assertEqual(function.__name__, name)
+                    parameters = inspect.signature(function).parameters
+                    self.assertEqual(tuple(parameters), names)
+                    for own in parameters.values():
+                        self.assertIs(own.kind, inspect.Parameter.POSITIONAL_OR_KEYWORD)
+                        self.assertIs(own.default, inspect.Parameter.empty)
+
+    def test_only_lists_where_lists_are_told(self):
+        for name, function, _, values in all_calls():
+            with self.subTest(name=name):
+                told = function(*values)
+                self.assertIs(isinstance(told, list), name in LISTS)
+                self.assertNotIn("[", repr(tuple(told) if isinstance(told, list) else told))
+
+
+class Calls(unittest.TestCase):
+    """Answers are compared by repr: so a list is no tuple, and True is not 1."""
+
+    def test_by_names(self):
+        for name, function, names, values in all_calls():
+            with self.subTest(name=name):
+                told = repr(function(*values))
+                self.assertEqual(repr(function(**dict(zip(names, values)))), told)
+                self.assertEqual(repr(function(**dict(list(zip(names, values))[::-1]))), told)
+
+    def test_with_lists_for_tuples_at_each_depth(self):
+        for name, function, names, values in all_calls():
+            told = repr(function(*values))
+            for at, own in enumerate(names):
+                if own == "thing":
+                    continue
+                for value in in_lists(values[at]):
+                    with self.subTest(name=name, value=value):
+                        given = values[:at] + (value,) + values[at + 1:]
+                        before = repr(given)
+                        self.assertEqual(repr(function(*given)), told)
+                        self.assertEqual(repr(function(**dict(zip(names, given)))), told)
+                        self.assertEqual(repr(given), before)
+
+    def test_with_lists_for_all_tuples_at_once(self):
+        for name, function, names, values in all_calls():
+            with self.subTest(name=name):
+                given = [value if own == "thing" else relisted(value, range(9)) for own, value in zip(names, values)]
+                before = copy.deepcopy(given)
+                self.assertEqual(repr(function(*given)), repr(function(*values)))
+                self.assertEqual(given, before)
+
+    def test_a_thing_with_a_list_for_a_tuple_is_none(self):
+        for name, function, names, values in all_calls():
+            if "thing" in names:
+                for value in in_lists(values[-1]):
+                    with self.subTest(name=name, value=value):
+                        before = repr(value)
+                        self.assertIs(function(*values[:-1], value), False)
+                        self.assertEqual(repr(value), before)
+
+    def test_a_returned_list_belongs_to_the_caller(self):
+        for name, function, _, values in all_calls():
+            if name in LISTS:
+                with self.subTest(name=name):
+                    told = function(*values)
+                    before = list(told)
+                    told.append("more")
+                    told.reverse()
+                    self.assertEqual(function(*values), before)
+                    self.assertIsNot(function(*values), function(*values))
+
+    def test_returned_values_may_be_passed_in_again(self):
+        moves, skins, rings, vanes = [importlib.import_module("whirlskin." + own)
+                                      for own in ("moves", "skins", "rings", "vanes")]
+        both = moves.sewn_together(CUBE, 0, moves.mirrored(CUBE), 5, 2)
+        self.assertTrue(skins.is_skin(skins.least_form(both)))
+        self.assertEqual(rings.rest(both, rings.corner_ring(both, 0)), 0)
+        self.assertTrue(vanes.are_vanes(TWIN, vanes.all_turned(TWIN, vanes.with_vane(TWIN, (0, 1), 1, 0), 2)))
+
+
+if __name__ == "__main__":
+    unittest.main()

@@ -1,0 +1,128 @@
+"""The form of the package's files: what of the rules for the language can be seen by a look at each file."""
+
+import ast
+import builtins
+import os
+import re
+import unittest
+import warnings
+
+PACKAGE = os.path.join(os.path.dirname(os.path.dirname(os.path.abspath(__file__))), "whirlskin")
+BUILTINS = set("""len range enumerate zip min max sum abs sorted reversed int str bool list tuple dict set isinstance ord
+repr any all divmod Exception ValueError TypeError KeyError IndexError LookupError ZeroDivisionError
+NotImplemented""".split())
+LIBRARY = {"heapq", "math", "itertools", "collections"}
+BARRED = (ast.AsyncFunctionDef, ast.AsyncFor, ast.AsyncWith, ast.Await, ast.Import, ast.Div)
+WORDS = re.compile(r"\b(typing|enum|Enum|namedtuple|ABC|Protocol|Generic|_wall|_WallAttr)\b")
+
+
+def files():
+    return sorted(name for name in os.listdir(PACKAGE) if name != "__pycache__")
+
+
+def text_of(name):
+    with open(os.path.join(PACKAGE, name), "rb") as file:
+        return file.read().decode("ascii")
+
+
+def tree_of(name):
+    with warnings.catch_warnings():
+        warnings.simplefilter("error")
+        compile(text_of(name), name, "exec")
+        return ast.parse(text_of(name))
+
+
+def functions_of(tree):
+    return [own for own in ast.walk(tree) if isinstance(own, ast.FunctionDef)]
+
+
+def imports_of(tree):
+    return [own for own in tree.body if isinstance(own, ast.ImportFrom)]
+
+
+def bound_in(function):
+    """The names of parameters and local variables."""
+    names = {own.arg for own in ast.walk(function) if isinstance(own, ast.arg)}
+    return names | {own.id for own in ast.walk(function) if isinstance(own, ast.Name) and isinstance(own.ctx, ast.Store)}
+
+
+class Form(unittest.TestCase):
+    def test_files_and_lines(self):
+        for name in files():
+            with self.subTest(name=name):
+                self.assertRegex(name, r"\A[a-z_0-9]+\.py\Z")
+                lines = text_of(name).split("\n")
+                self.assertLessEqual(len(lines), 400)
+                self.assertLessEqual(max(len(line) for line in lines), 120)
+                self.assertRegex(text_of(name), r"\A[ -~\n]*\n\Z")
+                self.assertIsNone(WORDS.search(text_of(name)))
+
+    def test_no_function_is_long(self):
+        for name in files():
+            for function in functions_of(tree_of(name)):
+                with self.subTest(name=name, function=function.name):
+                    self.assertLessEqual(function.end_lineno - function.lineno + 1, 40)
+                    self.assertEqual(function.decorator_list, [])
+                    self.assertTrue(ast.get_docstring(function) or function.name == "__init__")
+
+    def test_module_level(self):
+        for name in files():
+            for own in tree_of(name).body:
+                with self.subTest(name=name, line=own.lineno):
+                    docstring = isinstance(own, ast.Expr) and isinstance(own.value, ast.Constant)
+                    plain = (ast.ImportFrom, ast.FunctionDef, ast.ClassDef, ast.Assign)
+                    self.assertTrue(docstring or isinstance(own, plain))
+
+    def test_imports_name_the_file_that_defines_the_name(self):
+        for name in files():
+            for own in imports_of(tree_of(name)):
+                if own.module not in LIBRARY:
+                    with self.subTest(name=name, module=own.module):
+                        self.assertEqual(own.level, 0)
+                        package, module = own.module.split(".")
+                        self.assertEqual(package, "whirlskin")
+                        defined = {part.name for part in tree_of(module + ".py").body
+                                   if isinstance(part, (ast.FunctionDef, ast.ClassDef))}
+                        self.assertLessEqual({part.name for part in own.names}, defined)
+                        self.assertTrue(all(part.asname is None for part in own.names))
+
+    def test_no_file_imports_itself_through_others(self):
+        known = {name[:-3]: [own.module.split(".")[-1] for own in imports_of(tree_of(name))
+                             if own.module not in LIBRARY] for name in files()}
+        done = []
+        while len(done) < len(known):
+            ready = [name for name in known if name not in done and set(known[name]) <= set(done)]
+            self.assertTrue(ready, "files that import from each other")
+            done += ready
+
+    def test_nothing_is_used_that_is_barred(self):
+        for name in files():
+            for own in ast.walk(tree_of(name)):
+                with self.subTest(name=name, line=getattr(own, "lineno", None)):
+                    self.assertNotIsInstance(own, BARRED)
+                    if isinstance(own, ast.Constant):
+                        self.assertNotIsInstance(own.value, (float, complex))
+                    if isinstance(own, ast.Name) and hasattr(builtins, own.id):
+                        self.assertIn(own.id, BUILTINS)
+
+    def test_no_name_means_two_things(self):
+        for name in files():
+            tree = tree_of(name)
+            taken = {part.name for own in imports_of(tree) for part in own.names}
+            taken |= {own.name for own in tree.body if isinstance(own, (ast.FunctionDef, ast.ClassDef))}
+            for function in functions_of(tree):
+                with self.subTest(name=name, function=function.name):
+                    self.assertEqual(bound_in(function) & taken, set())
+                    self.assertEqual({own for own in bound_in(function) if hasattr(builtins, own)}, set())
+
+    def test_each_import_is_used(self):
+        for name in files():
+            tree = tree_of(name)
+            used = {own.id for own in ast.walk(tree) if isinstance(own, ast.Name)}
+            for own in imports_of(tree):
+                with self.subTest(name=name, module=own.module):
+                    self.assertLessEqual({part.name for part in own.names}, used)
+
+
+if __name__ == "__main__":
+    unittest.main()

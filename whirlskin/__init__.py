@@ -1,0 +1,1 @@
+"""Whirlskin: vanes on skins sewn of squares."""
