@@ -240,3 +240,70 @@ def rings_on(skin, dice):
     crossing = (field, dice.below(4))
     rows = [(crossing, skin[field][crossing[1]])]
     return rows + [ring_on(skin, dice, field, least) for least in (1, 1, 3, 6, 15)]
+
+
+WAYS = {1: (1, 0, 0), 2: (0, 1, 0), 3: (0, 0, 1), -1: (-1, 0, 0), -2: (0, -1, 0), -3: (0, 0, -1)}
+AXES = {1: (2, 3), 2: (3, 1), 3: (1, 2), -1: (3, 2), -2: (1, 3), -3: (2, 1)}
+
+
+def moved(cube, *ways):
+    for way in ways:
+        cube = tuple(one + two for one, two in zip(cube, WAYS[way]))
+    return cube
+
+
+def heap_skin(cubes):
+    """The SKIN of what is a HEAP neither pinched nor hollow."""
+    faces = sorted((cube, way) for cube in cubes for way in WAYS if moved(cube, way) not in cubes)
+    place = {face: at for at, face in enumerate(faces)}
+    sides = {way: (u, v, -u, -v) for way, (u, v) in AXES.items()}
+    rows = []
+    for cube, way in faces:
+        row = []
+        for out in sides[way]:
+            if moved(cube, way, out) in cubes:
+                face, back = (moved(cube, way, out), -out), -way
+            elif moved(cube, out) in cubes:
+                face, back = (moved(cube, out), way), -out
+            else:
+                face, back = (cube, out), way
+            row.append((place[face], sides[face[1]].index(back)))
+        rows.append(tuple(row))
+    return tuple(rows)
+
+
+def box_of(wide, deep, high):
+    return [(x, y, z) for x in range(wide) for y in range(deep) for z in range(high)]
+
+
+def heap_skins():
+    """SKINS of HEAPS, all of whose FIELDS have four unlike CORNERS: without HANDLES, with one, with two."""
+    heaps = [box_of(*own) for own in ((1, 1, 1), (1, 1, 2), (1, 2, 2), (1, 2, 3), (2, 2, 2), (2, 2, 4), (1, 1, 9))]
+    heaps.append([(0, 0, 0), (1, 0, 0), (0, 1, 0), (0, 0, 1)])
+    heaps.append([(0, 0, 0), (1, 0, 0), (1, 1, 0), (1, 1, 1), (2, 1, 1)])
+    heaps.append([own for own in box_of(3, 3, 1) if own != (1, 1, 0)])
+    heaps.append([own for own in box_of(3, 5, 1) if own not in ((1, 1, 0), (1, 3, 0))])
+    return [heap_skin(own) for own in heaps]
+
+
+def corner_rows(skin):
+    """For each CORNER the pairs of its ROUND, worked out by going round till home; in order of their least ones."""
+    left, rows = crossings(skin), []
+    while left:
+        row, pair = [], left[0]
+        while pair not in row:
+            row.append(pair)
+            pair = skin[pair[0]][(pair[1] - 1) % 4]
+        left = [own for own in left if own not in row]
+        rows.append(row)
+    return rows
+
+
+def rising_skins():
+    """SKINS all of whose FIELDS have four unlike CORNERS, of up to 40 FIELDS or so."""
+    rows = []
+    for skin in heap_skins() + [framed(CUBE, 2), framed(framed(PILLOW, 0), 3), torus(3, 3, 1)] + many_skins():
+        at = {pair: number for number, row in enumerate(corner_rows(skin)) for pair in row}
+        if all(len({at[field, side] for side in range(4)}) == 4 for field in range(len(skin))):
+            rows.append(skin)
+    return rows

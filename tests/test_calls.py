@@ -6,12 +6,15 @@ import inspect
 import unittest
 
 from tests.kinds import in_lists, relisted
-from tests.samples import CROOK, CUBE, LOOP, PAIR, PILLOW, TWIN, WHEEL
+from tests.samples import CROOK, CUBE, LOOP, PAIR, PILLOW, TWIN, TWIST, WHEEL
 
 BELT = ((0, 0), (4, 0), (5, 3), (1, 3))
 HALF = ((0, 3), (2, 1), (4, 2))
 ROUND_TWIN = ((0, 1), (0, 2), (1, 0))
 SHUT = (((0, 0), (0, 1), (0, 2), (0, 3)),)
+WILD = (5, 0, 3, 7, 2, 6, 1, 4)
+FAR, NEAR = ((1, 0, 0, 0, 0, 0, 0, 1), ()), ((1, 1, 0, 0, 0, 0, 0, 0), ())
+SPUN = ((2, -2), (-3, 5))
 
 # For each file of the interface: for each function its names of arguments, and some arguments for it.
 INTERFACE = {
@@ -66,6 +69,28 @@ INTERFACE = {
         "handle_rings": (("skin",), [(TWIN,), (PAIR,)]),
         "handles": (("skin",), [(CUBE,), (PAIR,)]),
         "way_to": (("skin", "field"), [(CUBE, 5), (CUBE, 0)]),
+    },
+    "whirls": {
+        "whirls": (("skin", "vanes"), [(CUBE, (0, 0, 0, 0, 3, 1)), (PAIR, (0, 0, 0))]),
+        "whirl_at": (("skin", "vanes", "corner"), [(CUBE, (0, 0, 0, 0, 0, 0), 3), (PAIR, (0, 0, 0), 0)]),
+        "least_whirl": (("skin", "corner"), [(CUBE, 7), (PAIR, 0)]),
+        "whirled": (("skin", "vanes", "number"), [(CUBE, (0, 0, 0, 0, 3, 1), 1), (PILLOW, (0, 1), -3)]),
+        "wish_of": (("skin", "vanes"), [(WHEEL, (0, 2)), (PILLOW, (0, 3))]),
+    },
+    "heights": {
+        "can_rise": (("skin",), [(CUBE,), (LOOP,)]),
+        "are_heights": (("skin", "thing"), [(CUBE, WILD), (PILLOW, (1, 2, 3, 1))]),
+        "height_counts": (("skin", "heights"), [(CUBE, WILD), (PILLOW, (3, 1, 7, 2))]),
+        "pits": (("skin", "heights"), [(CUBE, WILD), (LOOP, (5,))]),
+        "peaks": (("skin", "heights"), [(CUBE, WILD), (LOOP, (5,))]),
+    },
+    "wishes": {
+        "is_wish": (("skin", "thing"), [(CUBE, FAR), (LOOP, ((0,), (1, 0))), (LOOP, ((0,), (1,)))]),
+        "bars_first": (("skin", "wish"), [(CUBE, NEAR), (CUBE, ((1,) * 8, ())), (LOOP, ((0,), (4, 1)))]),
+        "wide_steps": (("skin", "wish"), [(CUBE, NEAR), (TWIST, SPUN)]),
+        "fits": (("skin", "wish", "thing"), [(LOOP, ((0,), (4, 0)), ((4, 0, -4, 0),)),
+                                             (LOOP, ((0,), (4, 0)), ((4, 4, -4, -4),))]),
+        "asked": (("skin", "wish", "ring"), [(CUBE, NEAR, HALF), (TWIST, SPUN, ((0, 2), (1, 1)))]),
     },
 }
 

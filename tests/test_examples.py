@@ -8,7 +8,7 @@ import unittest
 from whirlskin import errors
 
 HERE = os.path.dirname(os.path.abspath(__file__))
-MODULES = ("skins", "corners", "rings", "vanes", "moves", "trees")
+MODULES = ("skins", "corners", "rings", "vanes", "moves", "trees", "whirls", "heights", "wishes")
 RAISES = re.compile(r"raises (\w+)\((?:(\w+)=(-?\d+))?\)")
 
 
@@ -44,7 +44,7 @@ def steps_of(name):
 
 class Examples(unittest.TestCase):
     def test_there_are_all_files(self):
-        self.assertEqual(example_files(), [f"examples_{number:02d}.txt" for number in (4, 5, 6, 7, 8, 9)])
+        self.assertEqual(example_files(), [f"examples_{number:02d}.txt" for number in range(4, 13)])
 
     def test_each_example(self):
         # Names go on from one section to the next, so all files share them.

@@ -1,5 +1,6 @@
 """CORNERS: the rounds of FIELDS at which sides end, their LACKS, X."""
 
+from whirlskin.errors import NoCorner
 from whirlskin.skins import all_crossings, check_field, given_skin
 
 
@@ -32,6 +33,12 @@ def _round_from(skin, pair):
     return tuple(row)
 
 
+def check_corner(rows, corner):
+    """NoCorner(corner) if there is none with this number among the CORNERS that rows tell."""
+    if not 0 <= corner < len(rows):
+        raise NoCorner(corner)
+
+
 def numbers_at(skin):
     """The dict with the number of the CORNER of each pair of a FIELD and a SIDE, of what is a SKIN."""
     return {pair: number for number, row in enumerate(rounds(skin)) for pair in row}
@@ -48,12 +55,11 @@ def corners_of(skin, field):
     """The tuple of the numbers of the CORNERS at the SIDES 0 to 3 of field."""
     own = given_skin(skin)
     check_field(own, field)
-    return four_corners(own, field)
+    return four_corners(numbers_at(own), field)
 
 
-def four_corners(skin, field):
-    """What corners_of tells, of what is a SKIN and a FIELD of it."""
-    numbers = numbers_at(skin)
+def four_corners(numbers, field):
+    """What corners_of tells, by the numbers that numbers_at tells."""
     return tuple([numbers[field, side] for side in range(4)])
 
 

@@ -21,6 +21,11 @@ def are_sides(thing, many):
     return isinstance(thing, tuple) and len(thing) == many and all([is_side(own) for own in thing])
 
 
+def are_numbers(thing, many):
+    """Whether thing is a tuple of so many numbers."""
+    return isinstance(thing, tuple) and len(thing) == many and all([is_number(own) for own in thing])
+
+
 def is_crossing(thing, many):
     """Whether thing is a CROSSING of one of so many FIELDS."""
     return isinstance(thing, tuple) and len(thing) == 2 and is_below(thing[0], many) and is_side(thing[1])

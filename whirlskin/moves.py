@@ -1,6 +1,6 @@
 """What comes of SKINS: mirrored, with their VANES and RINGS, and sewn together."""
 
-from whirlskin.corners import four_corners
+from whirlskin.corners import four_corners, numbers_at
 from whirlskin.errors import Unfit
 from whirlskin.rings import given_ring
 from whirlskin.skins import all_crossings, check_field, given_names, given_skin, sewn
@@ -65,7 +65,7 @@ def _leads_to_itself(skin, field):
 
 def _has_four_corners(skin, field):
     """Whether the four CORNERS of field are unlike."""
-    return len(set(four_corners(skin, field))) == 4
+    return len(set(four_corners(numbers_at(skin), field))) == 4
 
 
 def sewn_together(skin, field, other, far, turn):

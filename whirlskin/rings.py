@@ -1,17 +1,17 @@
 """RINGS of CROSSINGS, and how far a SIDE is turned that is led round them."""
 
-from whirlskin.corners import rounds
-from whirlskin.errors import NoCorner, Unfit
+from whirlskin.corners import check_corner, rounds
+from whirlskin.errors import Unfit
 from whirlskin.forms import as_tuples, is_crossing
 from whirlskin.skins import given_skin, sewn
 
 
 def is_ring(skin, thing):
     """Whether thing is a RING of skin, of however many CROSSINGS."""
-    return _comes_home(given_skin(skin), thing)
+    return comes_home(given_skin(skin), thing)
 
 
-def _comes_home(skin, thing):
+def comes_home(skin, thing):
     """What is_ring tells, of what is a SKIN."""
     if not isinstance(thing, tuple) or len(thing) == 0:
         return False
@@ -24,7 +24,7 @@ def _comes_home(skin, thing):
 def given_ring(skin, ring):
     """The RING of what is a SKIN that was handed in, in tuples; Unfit() if it is none."""
     own = as_tuples(ring, (None, 2))
-    if not _comes_home(skin, own):
+    if not comes_home(skin, own):
         raise Unfit()
     return own
 
@@ -50,8 +50,13 @@ def led(skin, ring, side):
 def rest(skin, ring):
     """The REST of ring, from 0 to 3."""
     own = given_skin(skin)
+    return rest_round(own, given_ring(own, ring))
+
+
+def rest_round(skin, ring):
+    """What rest tells, of what is a SKIN and a RING of it."""
     # SIDE 0 that comes home turned by the REST comes home as the REST itself.
-    return _led_round(own, given_ring(own, ring), 0)
+    return _led_round(skin, ring, 0)
 
 
 def gone_back(skin, ring):
@@ -69,9 +74,13 @@ def corner_ring(skin, corner):
     """The RING round this CORNER."""
     own = given_skin(skin)
     rows = rounds(own)
-    if not 0 <= corner < len(rows):
-        raise NoCorner(corner)
-    return tuple([(field, (side - 1) % 4) for field, side in rows[corner]])
+    check_corner(rows, corner)
+    return ring_round(rows[corner])
+
+
+def ring_round(row):
+    """The RING round the CORNER that has this ROUND."""
+    return tuple([(field, (side - 1) % 4) for field, side in row])
 
 
 def put_behind(skin, ring, other):

@@ -12,15 +12,15 @@ def field_tree(skin):
 
 def corner_tree(skin):
     """The list, ascending, of the EDGES of the CORNER TREE."""
-    return _joining(given_skin(skin))[0]
+    return joining(given_skin(skin))[0]
 
 
 def loose(skin):
     """The list, ascending, of the LOOSE EDGES."""
-    return _joining(given_skin(skin))[1]
+    return joining(given_skin(skin))[1]
 
 
-def _joining(skin):
+def joining(skin):
     """The pair of lists: the EDGES of the CORNER TREE, the LOOSE EDGES, of what is a SKIN."""
     numbers = numbers_at(skin)
     lots = list(range(len(rounds(skin))))
@@ -54,7 +54,7 @@ def rings_of_handles(skin):
     """What handle_rings tells, of what is a SKIN."""
     comes = _comes_over(skin)
     rows = []
-    for edge in _joining(skin)[1]:
+    for edge in joining(skin)[1]:
         back = contraries(skin, _way(comes, sewn(skin, edge)[0]))
         rows.append(_way(comes, edge[0]) + (edge,) + back)
     return tuple(rows)

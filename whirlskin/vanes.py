@@ -51,15 +51,24 @@ def step(skin, vanes, crossing):
 def steps(skin, vanes):
     """The tuple with, for each FIELD, the tuple of the STEPS over its SIDES 0 to 3."""
     own = given_skin(skin)
-    sides = given_vanes(own, vanes)
-    return tuple([tuple([step_over(own, sides, (field, side)) for side in range(4)]) for field in range(len(own))])
+    return rows_of_steps(own, given_vanes(own, vanes))
+
+
+def rows_of_steps(skin, sides):
+    """What steps tells, of what is a SKIN and VANES of it."""
+    return tuple([tuple([step_over(skin, sides, (field, side)) for side in range(4)]) for field in range(len(skin))])
+
+
+def over_ring(rows, ring):
+    """What rows of STEPS, or of WIDE STEPS, come to over ring."""
+    return sum([rows[field][side] for field, side in ring])
 
 
 def turning(skin, vanes, ring):
     """The TURNING of ring: its STEPS added up."""
     own = given_skin(skin)
     sides = given_vanes(own, vanes)
-    return sum([step_over(own, sides, crossing) for crossing in given_ring(own, ring)])
+    return over_ring(rows_of_steps(own, sides), given_ring(own, ring))
 
 
 def all_turned(skin, vanes, number):
