@@ -36,16 +36,16 @@ def nearly_whirls(skin):
     """What is no tuple with a number for each CORNER."""
     whirls = plain_wish(skin)[0]
     cells = (None, True, False, "0", (), (0,), 1.0, "")
-    return [whirls + (0,), whirls[:-1], whirls * 2, "0" * len(whirls), set(whirls), dict.fromkeys(range(len(whirls)), 0),
-            range(len(whirls))] + [changed_at(whirls, at, own) for own in cells for at in (0, len(whirls) - 1)]
+    return [whirls + (0,), whirls[:-1], whirls * 2, "0" * len(whirls), set(whirls),
+            dict.fromkeys(range(len(whirls)), 0), range(len(whirls))] + [changed_at(whirls, at, own) for own in cells for at in (0, len(whirls) - 1)]
 
 
 def nearly_wishes(skin):
     """What looks like a WISH of skin at first sight."""
     whirls, turnings = plain_wish(skin)
     rows = [(own, turnings) for own in nearly_whirls(skin)]
-    rows += [(whirls,), (whirls, turnings, ()), (whirls, turnings, turnings), ((whirls, turnings),), whirls, whirls + turnings,
-             (turnings, whirls, whirls), (whirls, turnings + (0,)), (whirls, turnings + (None,)), (whirls, 0),
+    rows += [(whirls,), (whirls, turnings, ()), (whirls, turnings, turnings), ((whirls, turnings),), whirls,
+             whirls + turnings, (turnings, whirls, whirls), (whirls, turnings + (0,)), (whirls, turnings + (None,)), (whirls, 0),
              (whirls, None), (whirls, "00"[:len(turnings)] or "x"), (whirls, (turnings,)), {0: whirls, 1: turnings}]
     if turnings:
         rows += [(whirls, turnings[1:]), (whirls, ()), (whirls, changed_at(turnings, 0, True)),

@@ -1,5 +1,7 @@
 """SKINS, RINGS and VANES of unlike kinds, made without the package, the same in each run."""
 
+import itertools
+
 LOOP = (((0, 2), (0, 3), (0, 0), (0, 1)),)
 TWIN = (((1, 2), (0, 3), (1, 0), (0, 1)), ((0, 2), (1, 3), (0, 0), (1, 1)))
 PILLOW = (((1, 0), (1, 3), (1, 2), (1, 1)), ((0, 0), (0, 3), (0, 2), (0, 1)))
@@ -307,3 +309,22 @@ def rising_skins():
         if all(len({at[field, side] for side in range(4)}) == 4 for field in range(len(skin))):
             rows.append(skin)
     return rows
+
+
+def every_vanes(skin):
+    """All VANES of a small SKIN, ascending: all SIDES are tried out."""
+    rows = []
+    for behind in itertools.product(range(4), repeat=len(skin) - 1):
+        sides = (0,) + behind
+        if all(step_of(skin, sides, own) != 2 for own in crossings(skin)):
+            rows += [tuple((own + turn) % 4 for own in sides) for turn in range(4)]
+    return sorted(rows)
+
+
+def small_skins(most=6):
+    """SKINS of few FIELDS, so that all their VANES can be tried out."""
+    dice = Dice(3)
+    rows = list(NAMED) + all_skins(1) + all_skins(2)[::8] + [torus(1, 4, 0), torus(1, 5, 0), torus(2, 2, 1)]
+    rows += [thrown_skin(dice, many) for many in (3, 3, 4, 4, 5, 5, 6)]
+    rows += [grown_skin(dice, start, 5) for start in (CONE, PILLOW, LOOP, TWIN, WHEEL)]
+    return [skin for skin in rows if len(skin) <= most]

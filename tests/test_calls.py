@@ -92,9 +92,40 @@ INTERFACE = {
                                              (LOOP, ((0,), (4, 0)), ((4, 4, -4, -4),))]),
         "asked": (("skin", "wish", "ring"), [(CUBE, NEAR, HALF), (TWIST, SPUN, ((0, 2), (1, 1)))]),
     },
+    "lays": {
+        "can_be": (("skin", "wish"), [(CUBE, FAR), (CUBE, NEAR), (LOOP, ((0,), (4, 1)))]),
+        "lay": (("skin", "wish"), [(CUBE, FAR), (LOOP, ((0,), (0, 0))), (PILLOW, ((0, 1, 0, 1), ()))]),
+        "bar": (("skin", "wish"), [(CUBE, NEAR), (CUBE, ((1,) * 8, ())), (LOOP, ((0,), (4, 1)))]),
+        "is_bar": (("skin", "wish", "thing"), [(CUBE, NEAR, ("ring", ((0, 3), (2, 1), (4, 1), (3, 3)))),
+                                               (CUBE, FAR, ("sum",)), (LOOP, ((1,), (4, 1)), ("rest", 1))]),
+        "turnings_between": (("skin", "whirls", "number", "turnings"),
+                             [(LOOP, (0,), 1, (0, 9)), (TWIST, (0, 0), 0, (0, 1)), (TWIST, (2, -2), 0, (1, 4))]),
+    },
+    "cuts": {
+        "wants": (("skin", "whirls"), [(CUBE, NEAR[0]), (PILLOW, (1, 0, 1, 0))]),
+        "rim_of": (("skin", "lot"), [(CUBE, (0, 1)), (PILLOW, ()), (PILLOW, (0, 2))]),
+        "is_cut": (("skin", "whirls", "thing"), [(CUBE, NEAR[0], (0, 1)), (CUBE, FAR[0], (0, 1))]),
+        "cut": (("skin", "whirls"), [(CUBE, NEAR[0]), (PILLOW, (1, 0, 0, 0))]),
+        "step_rows": (("skin", "whirls"), [(CUBE, FAR[0]), (CUBE, NEAR[0])]),
+    },
+    "lots": {
+        "all_vanes": (("skin",), [(TWIN,), (CUBE,)]),
+        "wishes": (("skin",), [(TWIN,), (CUBE,)]),
+        "lot": (("skin", "wish"), [(CUBE, FAR), (PILLOW, ((1, 1, 0, 0), ())), (TWIN, ((0, 0), (0, 0)))]),
+        "many": (("skin", "wish"), [(CUBE, FAR), (TWIN, ((0, 0), (0, 0)))]),
+        "place_of": (("skin", "vanes"), [(TWIN, (1, 2)), (CUBE, (0, 0, 0, 0, 3, 1))]),
+        "vanes_at": (("skin", "number"), [(TWIN, 9), (CUBE, 191)]),
+    },
+    "quarters": {
+        "is_quarter": (("skin", "vanes", "thing"), [(TWIN, (0, 0), (0, 1)), (TWIN, (0, 0), (0, 2))]),
+        "quarters": (("skin", "vanes"), [(PAIR, (0, 0, 0)), (PILLOW, (0, 1))]),
+        "barring": (("skin", "vanes", "field", "way"), [(PAIR, (0, 0, 0), 0, -1), (PAIR, (0, 0, 0), 0, 1)]),
+        "turned": (("skin", "vanes", "field", "way"), [(PAIR, (0, 0, 0), 0, 1), (TWIN, (0, 0), 1, -1)]),
+        "behind": (("skin", "vanes", "plan"), [(TWIN, (0, 0), ((0, 1), (1, 1), (1, 1))), (TWIN, (0, 0), ())]),
+    },
 }
 
-LISTS = ("edges", "field_tree", "corner_tree", "loose")
+LISTS = ("edges", "field_tree", "corner_tree", "loose", "rim_of", "all_vanes", "wishes", "lot")
 
 
 def function_of(module, name):
@@ -185,12 +216,14 @@ class Calls(unittest.TestCase):
                     self.assertIsNot(function(*values), function(*values))
 
     def test_returned_values_may_be_passed_in_again(self):
-        moves, skins, rings, vanes = [importlib.import_module("whirlskin." + own)
-                                      for own in ("moves", "skins", "rings", "vanes")]
+        moves, skins, rings, vanes, lots, lays = [importlib.import_module("whirlskin." + own)
+                                                  for own in ("moves", "skins", "rings", "vanes", "lots", "lays")]
         both = moves.sewn_together(CUBE, 0, moves.mirrored(CUBE), 5, 2)
         self.assertTrue(skins.is_skin(skins.least_form(both)))
         self.assertEqual(rings.rest(both, rings.corner_ring(both, 0)), 0)
         self.assertTrue(vanes.are_vanes(TWIN, vanes.all_turned(TWIN, vanes.with_vane(TWIN, (0, 1), 1, 0), 2)))
+        self.assertEqual(lots.many(CUBE, lots.wishes(CUBE)[3]), 12)
+        self.assertTrue(lays.is_bar(CUBE, NEAR, lays.bar(CUBE, NEAR)))
 
 
 if __name__ == "__main__":

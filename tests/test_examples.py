@@ -8,7 +8,8 @@ import unittest
 from whirlskin import errors
 
 HERE = os.path.dirname(os.path.abspath(__file__))
-MODULES = ("skins", "corners", "rings", "vanes", "moves", "trees", "whirls", "heights", "wishes")
+MODULES = ("skins", "corners", "rings", "vanes", "moves", "trees", "whirls", "heights", "wishes", "lays", "cuts",
+           "lots", "quarters")
 RAISES = re.compile(r"raises (\w+)\((?:(\w+)=(-?\d+))?\)")
 
 
@@ -44,7 +45,7 @@ def steps_of(name):
 
 class Examples(unittest.TestCase):
     def test_there_are_all_files(self):
-        self.assertEqual(example_files(), [f"examples_{number:02d}.txt" for number in range(4, 13)])
+        self.assertEqual(example_files(), [f"examples_{number:02d}.txt" for number in range(4, 17)])
 
     def test_each_example(self):
         # Names go on from one section to the next, so all files share them.

@@ -122,7 +122,7 @@ class BarsFirst(unittest.TestCase):
             for one in range(min(len(wish[1]), 9)):
                 for two in range(len(wish[1])):
                     turns = changed_at(wish[1], one, wish[1][one] + 1 + dice.below(3))
-                    turns = changed_at(turns, two, turns[two] + 4) if one == two else changed_at(turns, two, turns[two] + 2)
+                    turns = changed_at(turns, two, turns[two] + (4 if one == two else 2))
                     self.assertEqual(bars_first(skin, (wish[0], turns)), ("rest", min(one, two)))
 
     def test_the_sum_ahead_of_a_rest(self):
@@ -250,6 +250,24 @@ class Fits(unittest.TestCase):
                     told = changed_at(rows, field, changed_at(rows[field], side, rows[field][side] + number))
                     self.assertIs(fits(skin, wish, told), False)
 
+    def test_contraries_that_do_not_add_up_to_0_though_all_sums_are_right(self):
+        self.assertIs(fits(LOOP, ((0,), (4, 0)), ((4, 0, 0, -4),)), False)
+        self.assertIs(fits(LOOP, ((0,), (4, -4)), ((4, -4, 4, -4),)), False)
+        seen = 0
+        for skin in good_skins():
+            wish = wish_on(Dice(56), skin, 1)
+            rows = wide_steps(skin, wish)
+            asked_of = {own for ring in handle_rings(skin) for own in ring}
+            for corner in range(len(wish[0])):
+                free = [own for own in corner_ring(skin, corner) if own not in asked_of]
+                if len(free) > 1:
+                    told = rows
+                    for (field, side), number in zip(free, (4, -4)):
+                        told = changed_at(told, field, changed_at(told[field], side, told[field][side] + number))
+                    seen += 1
+                    self.assertIs(fits(skin, wish, told), False)
+        self.assertGreater(seen, 200)
+
     def test_things_of_any_kind(self):
         for skin, wish in ((LOOP, ((0,), (0, 0))), (PILLOW, ((1, 0, 1, 0), ())), (TWIN, ((0, 0), (0, 0)))):
             rows = wide_steps(skin, wish)
@@ -330,7 +348,8 @@ class Asked(unittest.TestCase):
 
 class Refusals(unittest.TestCase):
     def test_no_wish(self):
-        for skin, ring in ((LOOP, ((0, 1),)), (PILLOW, ((0, 0), (1, 2))), (PAIR, ((0, 0), (1, 3))), (TWIST, ((0, 0), (1, 1)))):
+        for skin, ring in ((LOOP, ((0, 1),)), (PILLOW, ((0, 0), (1, 2))), (PAIR, ((0, 0), (1, 3))),
+                           (TWIST, ((0, 0), (1, 1)))):
             for wish in nearly_wishes(skin) + [endless()]:
                 with self.subTest(skin=skin, wish=wish):
                     self.assertRaises(Unfit, bars_first, skin, wish)
