@@ -31,6 +31,12 @@ ROWS_401 = (((8, 3), (9, 0), (1, 3), (2, 2)), ((3, 2), (5, 3), (2, 3), (0, 2)), 
             ((5, 0), (3, 1), (6, 3), (6, 2)), ((5, 1), (7, 2), (7, 1), (4, 0)), ((8, 1), (8, 0), (4, 2), (0, 0)),
             ((0, 1), (3, 3), (9, 3), (9, 2)))
 WHIRLS_401 = (0, 0, -1, 0, 0, 0, 0, -1, 1, 1, 1, 1)
+# More of them, though for all FIELDS but the last ones there are just 400.
+ROWS_MORE = (((2, 2), (3, 2), (4, 2), (6, 0)), ((7, 2), (8, 2), (9, 2), (10, 2)), ((7, 0), (3, 3), (0, 0), (5, 1)),
+             ((10, 0), (4, 3), (0, 1), (2, 1)), ((9, 0), (5, 3), (0, 2), (3, 1)), ((11, 2), (2, 3), (6, 1), (4, 1)),
+             ((0, 3), (5, 2), (6, 3), (6, 2)), ((2, 0), (8, 3), (1, 0), (10, 1)), ((11, 1), (9, 3), (1, 1), (7, 1)),
+             ((4, 0), (10, 3), (1, 2), (8, 1)), ((3, 0), (7, 3), (1, 3), (9, 1)), ((11, 3), (8, 0), (5, 0), (11, 0)))
+WHIRLS_MORE = (0, 0, 0, 0, 0, 0, 0, 1, 0, 0, 0, -1, 1, 1)
 
 
 def spheres():
@@ -228,6 +234,7 @@ class StepRows(unittest.TestCase):
         self.assertEqual(step_rows(ROWS_400, WHIRLS_400), 400)
         self.assertRaises(TooMany, step_rows, ROWS_401, WHIRLS_401)
         self.assertRaises(TooMany, step_rows, ROWS_401, list(WHIRLS_401))
+        self.assertRaises(TooMany, step_rows, ROWS_MORE, WHIRLS_MORE)
 
     def test_too_many_on_larger_skins(self):
         dice, seen = Dice(80), 0

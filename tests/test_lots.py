@@ -35,6 +35,15 @@ LOT_400 = ((((4, 2), (3, 3), (1, 3), (2, 2)), ((6, 2), (5, 3), (7, 0), (0, 2)), 
 LOT_404 = ((((4, 0), (0, 3), (2, 0), (0, 1)), ((2, 2), (3, 2), (4, 2), (6, 1)), ((0, 2), (3, 3), (1, 0), (5, 1)),
             ((5, 0), (7, 1), (1, 1), (2, 1)), ((0, 0), (5, 3), (1, 2), (7, 2)), ((3, 0), (2, 3), (6, 0), (4, 1)),
             ((5, 2), (1, 3), (6, 3), (6, 2)), ((7, 3), (3, 1), (4, 3), (7, 0))), ((-1, 0, 0, 0, 0, -1, 1, 1), (0, 1)))
+# More than 400 VANES, though so many are met with just some of the SIDES, or the FIELDS, looked at.
+VANES_MORE = (((0, 3), (4, 0), (2, 3), (0, 0)), ((1, 2), (6, 2), (1, 0), (6, 1)), ((4, 3), (3, 1), (3, 2), (0, 2)),
+              ((5, 2), (2, 1), (2, 2), (5, 1)), ((0, 1), (5, 3), (6, 0), (2, 0)), ((6, 3), (3, 3), (3, 0), (4, 1)),
+              ((4, 2), (1, 3), (1, 1), (5, 0)))
+LOT_MORE = ((((2, 2), (7, 3), (4, 2), (5, 2)), ((5, 0), (1, 2), (1, 1), (3, 0)), ((4, 0), (6, 0), (0, 0), (5, 1)),
+             ((1, 3), (4, 3), (9, 3), (6, 3)), ((2, 0), (5, 3), (0, 2), (3, 1)), ((1, 0), (2, 3), (0, 3), (4, 1)),
+             ((2, 1), (6, 2), (6, 1), (3, 3)), ((7, 1), (7, 0), (8, 3), (0, 1)), ((10, 0), (10, 1), (9, 2), (7, 2)),
+             ((9, 1), (9, 0), (8, 2), (3, 2)), ((8, 0), (8, 1), (10, 3), (10, 2))),
+            ((0, -2, -1, 1, -3, 1, 1, 1, 0, 1, 1), (-4, 0)))
 
 
 def few_enough():
@@ -85,7 +94,7 @@ class AllVanes(unittest.TestCase):
             self.assertEqual((place_of(skin, had[-1]), vanes_at(skin, count - 1)), (count - 1, had[-1]))
             self.assertEqual(lot(skin, wish_of(skin, had[7])),
                              [own for own in had if wish_of(skin, own) == wish_of(skin, had[7])])
-        for skin, count in ((VANES_404, 404), (VANES_408, 408)):
+        for skin, count in ((VANES_404, 404), (VANES_408, 408), (VANES_MORE, 864)):
             had = every_vanes(skin)
             self.assertEqual(len(had), count)
             for call in (lambda: all_vanes(skin), lambda: wishes(skin), lambda: lot(skin, wish_of(skin, had[0])),
@@ -173,6 +182,7 @@ class Many(unittest.TestCase):
         self.assertEqual(many(skin, wish), 400)
         self.assertEqual(many(skin, [list(own) for own in wish]), 400)
         self.assertRaises(TooMany, many, *LOT_404)
+        self.assertRaises(TooMany, many, *LOT_MORE)
 
     def test_none_however_many_vanes_there_are(self):
         dice, seen = Dice(82), 0

@@ -91,18 +91,19 @@ def _corners_within(skin, ring):
     for crossing in ring:
         crossed[crossing] = True
         crossed[sewn(skin, crossing)] = True
-    kept = [ends_of(numbers, edge) for edge in edges_of(skin) if edge not in crossed]
-    start = numbers[ring[0]]
-    found = {start: True}
-    order = [start]
+    ways = []
+    for edge in edges_of(skin):
+        if edge not in crossed:
+            first, second = ends_of(numbers, edge)
+            ways = ways + [(first, second), (second, first)]
+    within = [numbers[ring[0]]]
     at = 0
-    while at < len(order):
-        for first, second in kept + [(second, first) for first, second in kept]:
-            if first == order[at] and second not in found:
-                found[second] = True
-                order.append(second)
+    while at < len(within):
+        for near, far in ways:
+            if near == within[at] and far not in within:
+                within.append(far)
         at += 1
-    return tuple(sorted(order))
+    return tuple(sorted(within))
 
 
 def step_rows(skin, whirls):
