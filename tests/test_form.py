@@ -13,6 +13,9 @@ repr any all divmod Exception ValueError TypeError KeyError IndexError LookupErr
 NotImplemented""".split())
 LIBRARY = {"heapq", "math", "itertools", "collections"}
 BARRED = (ast.AsyncFunctionDef, ast.AsyncFor, ast.AsyncWith, ast.Await, ast.Import, ast.Div)
+WALKED = {"range", "zip", "enumerate", "reversed"}
+VIEWS = {"items", "keys", "values"}
+WALKERS = {"list", "tuple", "dict", "sorted", "sum", "any", "all", "enumerate", "zip", "min", "max"}
 WORDS = re.compile(r"\b(typing|enum|Enum|namedtuple|ABC|Protocol|Generic|_wall|_WallAttr)\b")
 
 
@@ -44,6 +47,37 @@ def bound_in(function):
     """The names of parameters and local variables."""
     names = {own.arg for own in ast.walk(function) if isinstance(own, ast.arg)}
     return names | {own.id for own in ast.walk(function) if isinstance(own, ast.Name) and isinstance(own.ctx, ast.Store)}
+
+
+def called(own):
+    """The bare name that is called, or that of the method; None if own is no call of these kinds."""
+    if not isinstance(own, ast.Call):
+        return None
+    return own.func.id if isinstance(own.func, ast.Name) else getattr(own.func, "attr", None)
+
+
+def is_walked(own):
+    """Whether own is a range, a zip, a view or the like: what is to be walked on the spot."""
+    return called(own) in (WALKED if isinstance(getattr(own, "func", None), ast.Name) else VIEWS)
+
+
+def walked_by(own):
+    """What own walks on the spot: the things behind the in of a loop, the first ones handed to list and the like."""
+    if isinstance(own, (ast.For, ast.comprehension)):
+        return [own.iter]
+    if isinstance(own, ast.Compare) and isinstance(own.ops[0], (ast.In, ast.NotIn)):
+        return [part for part in own.comparators if called(part) in ("range", "keys")]
+    if called(own) == "zip":
+        return own.args
+    if called(own) in WALKERS or called(own) == "join" and isinstance(own.func.value, ast.Constant):
+        return own.args[:1]
+    return [part for part in own.args[:1] if called(part) == "range"] if called(own) in ("len", "reversed") else []
+
+
+def strays(tree):
+    """The lines of ranges, zips, views and the like that are kept, passed on or returned."""
+    good = {id(part) for own in ast.walk(tree) for part in walked_by(own)}
+    return [own.lineno for own in ast.walk(tree) if is_walked(own) and id(own) not in good]
 
 
 class Form(unittest.TestCase):
@@ -104,6 +138,21 @@ class Form(unittest.TestCase):
                         self.assertNotIsInstance(own.value, (float, complex))
                     if isinstance(own, ast.Name) and hasattr(builtins, own.id):
                         self.assertIn(own.id, BUILTINS)
+
+    def test_ranges_and_the_like_are_walked_on_the_spot(self):
+        for name in files():
+            with self.subTest(name=name):
+                self.assertEqual(strays(tree_of(name)), [])
+
+    def test_what_is_not_walked_on_the_spot_is_seen(self):
+        for line in ("return range(3)", "x = zip(a, b)", "x = [range(2)]", "f(d.items())", "return d.keys()", "x = reversed(a)[0]",
+                     "x = set(d.values())", "x = reversed(zip(a, b))", "return enumerate(a), 1", "x = range(2) == a"):
+            with self.subTest(line=line):
+                self.assertIn(1, strays(ast.parse(line)))
+        for line in ("list(range(3))", "for k in range(3): pass", "[k for k, v in d.items()]", "k in range(4)", "dict(zip(a, b))",
+                     "sorted(d.keys())", "list(enumerate(zip(a, range(3))))", "len(range(k))", "','.join(reversed(a))", "a[range]"):
+            with self.subTest(line=line):
+                self.assertEqual(strays(ast.parse(line)), [])
 
     def test_no_name_means_two_things(self):
         for name in files():

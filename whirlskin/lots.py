@@ -3,7 +3,8 @@
 from whirlskin.errors import TooMany, Unfit
 from whirlskin.lays import bar_of, laid_by
 from whirlskin.rings import laid_over
-from whirlskin.skins import all_crossings, first_ways, given_skin, sewn
+from whirlskin.rooms import rooms_from
+from whirlskin.skins import first_ways, given_skin, sewn
 from whirlskin.vanes import given_vanes, rows_of_steps
 from whirlskin.whirls import wish_by
 from whirlskin.wishes import given_wish
@@ -98,7 +99,8 @@ def rows_of_wish(skin, wish, most):
     """How many rows of STEPS VANES with this WISH have, of what is a SKIN; some number above most if more than that."""
     if bar_of(skin, wish) is not None:
         return 0
-    rooms = rooms_by(skin, rows_of_steps(skin, laid_by(skin, wish)))
+    steps = rows_of_steps(skin, laid_by(skin, wish))
+    rooms = [rooms_from(skin, steps, (field,)) for field in range(len(skin))]
     # Numbers for some FIELDS that keep within the rooms of each two of them can be gone on with on all others:
     # there are never fewer rows for more FIELDS.
     rows = [(0,)]
@@ -109,27 +111,10 @@ def rows_of_wish(skin, wish, most):
 
 
 def _numbers_next(rooms, row, field):
-    """The range of the numbers that FIELD field can have behind the row of those of all FIELDS below it."""
+    """The list of the numbers that FIELD field can have behind the row of those of all FIELDS below it."""
     least = max([number - rooms[field][other] for other, number in enumerate(row)])
     greatest = min([number + rooms[other][field] for other, number in enumerate(row)])
-    return range(least, greatest + 1)
-
-
-def rooms_by(skin, steps):
-    """The list, for each FIELD, of lists with a number for each FIELD: by how many quarters at most the latter can
-    have come on more than the former, in VANES of the WISH of those that have these STEPS."""
-    fields = range(len(skin))
-    # Over one EDGE they are 2 at most: so 2 for each FIELD is more than any way leaves.
-    rooms = [[0 if own == far else 2 * len(skin) for far in fields] for own in fields]
-    for field, side in all_crossings(skin):
-        other = skin[field][side][0]
-        rooms[field][other] = min(rooms[field][other], 1 - steps[field][side])
-    for middle in fields:
-        for row in rooms:
-            near = row[middle]
-            for other in fields:
-                row[other] = min(row[other], near + rooms[middle][other])
-    return rooms
+    return list(range(least, greatest + 1))
 
 
 def place_of(skin, vanes):
