@@ -6,7 +6,7 @@ import inspect
 import unittest
 
 from tests.kinds import in_lists, relisted
-from tests.samples import CROOK, CUBE, LOOP, PAIR, PILLOW, TWIN, TWIST, WHEEL
+from tests.samples import BRAID, CROOK, CUBE, LOOP, PAIR, PILLOW, TWIN, TWIST, WHEEL
 
 BELT = ((0, 0), (4, 0), (5, 3), (1, 3))
 HALF = ((0, 3), (2, 1), (4, 2))
@@ -15,6 +15,7 @@ SHUT = (((0, 0), (0, 1), (0, 2), (0, 3)),)
 WILD = (5, 0, 3, 7, 2, 6, 1, 4)
 FAR, NEAR = ((1, 0, 0, 0, 0, 0, 0, 1), ()), ((1, 1, 0, 0, 0, 0, 0, 0), ())
 SPUN = ((2, -2), (-3, 5))
+HELD, FREE = (1, 2, 0, 3, 1), (1, 2, 1, 3, 2)
 
 # For each file of the interface: for each function its names of arguments, and some arguments for it.
 INTERFACE = {
@@ -123,6 +124,31 @@ INTERFACE = {
         "turned": (("skin", "vanes", "field", "way"), [(PAIR, (0, 0, 0), 0, 1), (TWIN, (0, 0), 1, -1)]),
         "behind": (("skin", "vanes", "plan"), [(TWIN, (0, 0), ((0, 1), (1, 1), (1, 1))), (TWIN, (0, 0), ())]),
     },
+    "gaps": {
+        "gap": (("skin", "vanes", "far"), [(TWIN, (0, 0), (0, 3)), (LOOP, (1,), (0,)), (BRAID, HELD, FREE)]),
+        "by_gap": (("skin", "vanes", "numbers"), [(TWIN, (0, 0), (3, 4)), (PILLOW, (0, 1), (-3, -3))]),
+        "tight_fields": (("skin", "vanes"), [(PILLOW, (0, 1)), (BRAID, HELD), (PAIR, (0, 0, 0))]),
+        "tight_ring": (("skin", "vanes", "field"), [(PILLOW, (0, 1), 0), (BRAID, HELD, 4)]),
+        "is_tight_ring": (("skin", "vanes", "thing"), [(PILLOW, (0, 1), ((0, 1), (1, 0))),
+                                                       (PILLOW, (0, 1), ((0, 0), (1, 1)))]),
+        "still_fields": (("skin", "vanes"), [(BRAID, HELD), (BRAID, FREE), (LOOP, (2,))]),
+        "room": (("skin", "vanes", "field", "other"), [(PAIR, (0, 0, 0), 2, 0), (PILLOW, (0, 1), 1, 1)]),
+    },
+    "plans": {
+        "can_lead": (("skin", "vanes", "far"), [(PILLOW, (0, 1), (1, 2)), (BRAID, HELD, HELD), (TWIN, (0, 0), (2, 2))]),
+        "shift": (("skin", "vanes", "far"), [(PILLOW, (0, 1), (0, 1)), (TWIN, (0, 0), (2, 2))]),
+        "fewest": (("skin", "vanes", "far"), [(TWIN, (0, 0), (2, 2)), (CUBE, (0, 0, 2, 1, 1, 1), (2, 0, 2, 1, 1, 1))]),
+        "nearest": (("skin", "vanes", "far"), [(TWIN, (0, 0), (3, 0)), (LOOP, (0,), (2,))]),
+        "plan": (("skin", "vanes", "far"), [(TWIN, (0, 0), (2, 2)), (CUBE, (0, 0, 2, 1, 1, 1), (2, 0, 2, 1, 1, 1))]),
+        "is_plan": (("skin", "vanes", "far", "thing"), [(TWIN, (0, 0), (1, 0), ((1, 1), (0, 1), (1, -1))),
+                                                        (TWIN, (0, 0), (1, 0), ((0, 1), (0, 1)))]),
+        "stuck": (("skin", "vanes", "far"), [(PILLOW, (0, 1), (1, 2)), (BRAID, HELD, FREE)]),
+    },
+    "lattice": {
+        "lower": (("skin", "vanes", "far", "other"), [(TWIN, (0, 0), (1, 2), (3, 0)), (BRAID, HELD, FREE, FREE)]),
+        "higher": (("skin", "vanes", "far", "other"), [(TWIN, (0, 0), (0, 3), (1, 0)), (BRAID, HELD, FREE, HELD)]),
+        "depth": (("skin", "vanes"), [(CUBE, (0, 0, 2, 1, 1, 1)), (TWIN, (0, 0)), (PILLOW, (0, 1))]),
+    },
 }
 
 LISTS = ("edges", "field_tree", "corner_tree", "loose", "rim_of", "all_vanes", "wishes", "lot")
@@ -224,6 +250,11 @@ class Calls(unittest.TestCase):
         self.assertTrue(vanes.are_vanes(TWIN, vanes.all_turned(TWIN, vanes.with_vane(TWIN, (0, 1), 1, 0), 2)))
         self.assertEqual(lots.many(CUBE, lots.wishes(CUBE)[3]), 12)
         self.assertTrue(lays.is_bar(CUBE, NEAR, lays.bar(CUBE, NEAR)))
+        gaps, plans, lattice = [importlib.import_module("whirlskin." + own) for own in ("gaps", "plans", "lattice")]
+        self.assertEqual(gaps.by_gap(BRAID, HELD, gaps.gap(BRAID, HELD, FREE)), FREE)
+        self.assertTrue(gaps.is_tight_ring(BRAID, FREE, gaps.tight_ring(BRAID, HELD, 3)))
+        self.assertTrue(plans.is_plan(TWIN, (0, 0), (2, 2), plans.plan(TWIN, (0, 0), (2, 2))))
+        self.assertEqual(lattice.lower(TWIN, (0, 0), lattice.higher(TWIN, (0, 0), (1, 2), (3, 0)), (1, 2)), (1, 2))
 
 
 if __name__ == "__main__":

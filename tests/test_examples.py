@@ -9,7 +9,7 @@ from whirlskin import errors
 
 HERE = os.path.dirname(os.path.abspath(__file__))
 MODULES = ("skins", "corners", "rings", "vanes", "moves", "trees", "whirls", "heights", "wishes", "lays", "cuts",
-           "lots", "quarters")
+           "lots", "quarters", "gaps", "plans", "lattice", "heaps")
 RAISES = re.compile(r"raises (\w+)\((?:(\w+)=(-?\d+))?\)")
 
 
@@ -45,7 +45,7 @@ def steps_of(name):
 
 class Examples(unittest.TestCase):
     def test_there_are_all_files(self):
-        self.assertEqual(example_files(), [f"examples_{number:02d}.txt" for number in range(4, 17)])
+        self.assertEqual(example_files(), [f"examples_{number:02d}.txt" for number in range(4, 20)])
 
     def test_each_example(self):
         # Names go on from one section to the next, so all files share them.

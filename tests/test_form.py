@@ -97,7 +97,7 @@ class Form(unittest.TestCase):
                 with self.subTest(name=name, function=function.name):
                     self.assertLessEqual(function.end_lineno - function.lineno + 1, 40)
                     self.assertEqual(function.decorator_list, [])
-                    self.assertTrue(ast.get_docstring(function) or function.name == "__init__")
+                    self.assertTrue(ast.get_docstring(function) or function.name in ("__init__", "__eq__"))
 
     def test_module_level(self):
         for name in files():

@@ -2,7 +2,7 @@
 
 from whirlskin.errors import CanNot, Unfit
 from whirlskin.forms import is_number
-from whirlskin.rings import comes_home, rest_round
+from whirlskin.rings import comes_home, rest_round, ring_home
 from whirlskin.skins import all_crossings, given_skin
 from whirlskin.trees import rings_of_handles
 from whirlskin.vanes import over_ring
@@ -78,10 +78,7 @@ def _ring_back(come_over, field):
     # As many CROSSINGS back as there are FIELDS, one surely is on the RING.
     for _ in come_over:
         field = come_over[field][0]
-    ring = [come_over[field]]
-    while ring[-1][0] != field:
-        ring.append(come_over[ring[-1][0]])
-    return tuple(ring[::-1])
+    return ring_home(come_over, field)
 
 
 def is_bar(skin, wish, thing):

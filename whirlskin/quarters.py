@@ -81,8 +81,17 @@ def behind(skin, vanes, plan):
 
 def behind_plan(skin, sides, plan):
     """What behind tells, of what is a SKIN, VANES of it and a tuple of pairs."""
+    told, place = gone(skin, sides, plan)
+    if place is not None:
+        raise Broken(place)
+    return told
+
+
+def gone(skin, sides, plan):
+    """The pair of the VANES behind the QUARTERS of plan, and None; if one of its pairs is none in its turn,
+    of the VANES ahead of the first such one, and its place."""
     for place, pair in enumerate(plan):
         if not turns(skin, sides, pair):
-            raise Broken(place)
+            return sides, place
         sides = turned_by(sides, pair[0], pair[1])
-    return sides
+    return sides, None

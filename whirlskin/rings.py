@@ -70,6 +70,14 @@ def contraries(skin, row):
     return tuple([sewn(skin, crossing) for crossing in row[::-1]])
 
 
+def ring_home(come_over, field):
+    """The RING that comes home to field, gone back from there by the CROSSINGS over which FIELDS were come to."""
+    ring = [come_over[field]]
+    while ring[-1][0] != field:
+        ring.append(come_over[ring[-1][0]])
+    return tuple(ring[::-1])
+
+
 def corner_ring(skin, corner):
     """The RING round this CORNER."""
     own = given_skin(skin)

@@ -8,10 +8,10 @@ from whirlskin.skins import all_crossings, check_field, given_skin, sewn
 
 def are_vanes(skin, thing):
     """Whether thing is VANES of skin."""
-    return _stand_on(given_skin(skin), thing)
+    return stand_on(given_skin(skin), thing)
 
 
-def _stand_on(skin, thing):
+def stand_on(skin, thing):
     """What are_vanes tells, of what is a SKIN."""
     if not are_sides(thing, len(skin)):
         return False
@@ -21,7 +21,7 @@ def _stand_on(skin, thing):
 def given_vanes(skin, vanes):
     """The VANES of what is a SKIN that were handed in, as a tuple; Unfit() if they are none."""
     own = as_tuples(vanes, (None,))
-    if not _stand_on(skin, own):
+    if not stand_on(skin, own):
         raise Unfit()
     return own
 

@@ -11,10 +11,10 @@ from whirlskin.vanes import over_ring
 
 def is_wish(skin, thing):
     """Whether thing is a WISH by its form."""
-    return _has_form(given_skin(skin), thing)
+    return has_wish_form(given_skin(skin), thing)
 
 
-def _has_form(skin, thing):
+def has_wish_form(skin, thing):
     """What is_wish tells, of what is a SKIN."""
     if not isinstance(thing, tuple) or len(thing) != 2:
         return False
@@ -24,7 +24,7 @@ def _has_form(skin, thing):
 def given_wish(skin, wish):
     """The WISH of what is a SKIN that was handed in, in tuples; Unfit() if it is none."""
     own = as_tuples(wish, (2, None))
-    if not _has_form(skin, own):
+    if not has_wish_form(skin, own):
         raise Unfit()
     return own
 
