@@ -5,6 +5,7 @@ import importlib
 import inspect
 import unittest
 
+from tests.cubes import ARCH, BEND, HOLLOW, RING
 from tests.kinds import in_lists, relisted
 from tests.samples import BRAID, CROOK, CUBE, LOOP, PAIR, PILLOW, TWIN, TWIST, WHEEL
 
@@ -15,6 +16,9 @@ SHUT = (((0, 0), (0, 1), (0, 2), (0, 3)),)
 WILD = (5, 0, 3, 7, 2, 6, 1, 4)
 FAR, NEAR = ((1, 0, 0, 0, 0, 0, 0, 1), ()), ((1, 1, 0, 0, 0, 0, 0, 0), ())
 SPUN = ((2, -2), (-3, 5))
+CLAIMS = (("x", CUBE, 2), ("x", CUBE, 0), ("asked", CUBE, NEAR, HALF, 3), ("wish", CUBE, ((0, 0, 0, 1, 0, 0, 1, 0), ())),
+          ("wish", CUBE, NEAR), ("asked", CUBE, FAR, BELT, 3), ("led", CUBE, (0, 0, 2, 1, 1, 1), (2, 0, 2, 1, 1, 1)),
+          ("led", CUBE, (0, 0, 2, 1, 1, 1), (1, 1, 3, 2, 2, 2)))
 HELD, FREE = (1, 2, 0, 3, 1), (1, 2, 1, 3, 2)
 
 # For each file of the interface: for each function its names of arguments, and some arguments for it.
@@ -149,6 +153,40 @@ INTERFACE = {
         "higher": (("skin", "vanes", "far", "other"), [(TWIN, (0, 0), (0, 3), (1, 0)), (BRAID, HELD, FREE, HELD)]),
         "depth": (("skin", "vanes"), [(CUBE, (0, 0, 2, 1, 1, 1)), (TWIN, (0, 0)), (PILLOW, (0, 1))]),
     },
+    "heaps": {
+        "is_heap": (("thing",), [(BEND,), (BEND[1:],), (ARCH,)]),
+        "squares": (("heap",), [(BEND,), (ARCH,)]),
+        "box": (("wide", "deep", "high"), [(3, 1, 2), (1, 1, 1)]),
+        "is_pinched": (("heap",), [(BEND,), (ARCH,)]),
+        "has_hollow": (("heap",), [(BEND,), (HOLLOW,)]),
+        "skin_of": (("heap",), [(BEND,), (RING,)]),
+        "points": (("heap",), [(BEND,), (RING,)]),
+        "touched": (("heap", "cube"), [(RING, (1, 1, 0)), (ARCH, (1, 0, 0))]),
+        "put_change": (("heap", "cube"), [(RING, (1, 1, 0)), (BEND, (0, 0, -1))]),
+        "heap_mirrored": (("heap",), [(BEND,), (ARCH,)]),
+    },
+    "judge": {
+        "is_claim": (("thing",), [(own,) for own in CLAIMS] + [(("x", LOOP, 0),)]),
+        "is_so": (("claim",), [(own,) for own in CLAIMS]),
+        "paper_against": (("claim",), [(own,) for own in CLAIMS]),
+        "is_paper_against": (("claim", "thing"), [(("wish", CUBE, NEAR), ("ring", BELT)), (CLAIMS[-1], (1,)),
+                                                  (CLAIMS[1], (5, 0, 3, 7, 2, 6, 1, 4)), (CLAIMS[0], ("sum",))]),
+        "reason_for": (("claim",), [(own,) for own in CLAIMS]),
+        "is_reason_for": (("claim", "thing"), [(CLAIMS[0], WILD), (("led", TWIN, (0, 0), (1, 0)), ((0, 1),)), (CLAIMS[3], (0, 0, 0, 0, 3, 1))]),
+        "first_fallen": (("claims",), [(CLAIMS,), (CLAIMS[:1],), ((),)]),
+    },
+    "texts": {
+        "sides_name": (("sides",), [((0, 3, 1, 2),), ((),)]),
+        "ring_name": (("ring",), [(BELT,), (((-1, 10),),), ((),)]),
+        "skin_text": (("skin",), [(TWIN,), (LOOP,)]),
+        "plan_text": (("plan",), [(((3, 1), (0, -1)),), ((),)]),
+        "heap_text": (("heap",), [(BEND,), (RING,)]),
+        "sides_read": (("word",), [("esnw",), ("ex",), ("-",)]),
+        "ring_read": (("word",), [("0.1,4.2",), ("0.1,",), ("-",)]),
+        "read_skin": (("text",), [("field 0.2 0.3 0.0 0.1",)]),
+        "read_plan": (("text",), [("turn 12 back\nturn 0 on\n",), ("",)]),
+        "read_heap": (("text",), [("at 2 -1 0\n.#\n##",)]),
+    },
 }
 
 LISTS = ("edges", "field_tree", "corner_tree", "loose", "rim_of", "all_vanes", "wishes", "lot")
@@ -254,6 +292,10 @@ class Calls(unittest.TestCase):
         self.assertEqual(gaps.by_gap(BRAID, HELD, gaps.gap(BRAID, HELD, FREE)), FREE)
         self.assertTrue(gaps.is_tight_ring(BRAID, FREE, gaps.tight_ring(BRAID, HELD, 3)))
         self.assertTrue(plans.is_plan(TWIN, (0, 0), (2, 2), plans.plan(TWIN, (0, 0), (2, 2))))
+        heaps, judge, texts = [importlib.import_module("whirlskin." + own) for own in ("heaps", "judge", "texts")]
+        self.assertTrue(judge.is_paper_against(CLAIMS[-1], judge.paper_against(CLAIMS[-1])))
+        self.assertTrue(heaps.is_heap(texts.read_heap(texts.heap_text(heaps.heap_mirrored(heaps.box(2, 3, 1))))))
+        self.assertEqual(texts.read_skin(texts.skin_text(heaps.skin_of(BEND))), heaps.skin_of(BEND))
         self.assertEqual(lattice.lower(TWIN, (0, 0), lattice.higher(TWIN, (0, 0), (1, 2), (3, 0)), (1, 2)), (1, 2))
 
 

@@ -1,5 +1,6 @@
 """The examples of the document, as they are printed there, one file for each promise."""
 
+import doctest
 import importlib
 import os
 import re
@@ -9,7 +10,7 @@ from whirlskin import errors
 
 HERE = os.path.dirname(os.path.abspath(__file__))
 MODULES = ("skins", "corners", "rings", "vanes", "moves", "trees", "whirls", "heights", "wishes", "lays", "cuts",
-           "lots", "quarters", "gaps", "plans", "lattice", "heaps")
+           "lots", "quarters", "gaps", "plans", "lattice", "heaps", "judge", "texts", "board")
 RAISES = re.compile(r"raises (\w+)\((?:(\w+)=(-?\d+))?\)")
 
 
@@ -45,7 +46,7 @@ def steps_of(name):
 
 class Examples(unittest.TestCase):
     def test_there_are_all_files(self):
-        self.assertEqual(example_files(), [f"examples_{number:02d}.txt" for number in range(4, 20)])
+        self.assertEqual(example_files(), [f"examples_{number:02d}.txt" for number in range(4, 24)])
 
     def test_each_example(self):
         # Names go on from one section to the next, so all files share them.
@@ -54,6 +55,15 @@ class Examples(unittest.TestCase):
             for typed, told in steps_of(file):
                 with self.subTest(file=file, typed=typed):
                     self.check(names, typed, told)
+
+    def test_what_the_readme_shows(self):
+        with open(os.path.join(os.path.dirname(HERE), "README.md"), encoding="ascii") as file:
+            rows = doctest.DocTestParser().get_examples(file.read())
+        names = {}
+        for own in rows:
+            with self.subTest(typed=own.source):
+                self.check(names, own.source, own.want.strip() or None)
+        self.assertGreater(len(rows), 20)
 
     def check(self, names, typed, told):
         if told is None:

@@ -120,6 +120,14 @@ class Form(unittest.TestCase):
                         self.assertLessEqual({part.name for part in own.names}, defined)
                         self.assertTrue(all(part.asname is None for part in own.names))
 
+    def test_nothing_is_imported_but_the_package_and_what_counts_or_queues(self):
+        for name in files():
+            for own in ast.walk(tree_of(name)):
+                if isinstance(own, (ast.Import, ast.ImportFrom)):
+                    with self.subTest(name=name, line=own.lineno):
+                        self.assertIsInstance(own, ast.ImportFrom)
+                        self.assertTrue(own.module in LIBRARY or own.module.startswith("whirlskin."))
+
     def test_no_file_imports_itself_through_others(self):
         known = {name[:-3]: [own.module.split(".")[-1] for own in imports_of(tree_of(name))
                              if own.module not in LIBRARY] for name in files()}

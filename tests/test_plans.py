@@ -4,12 +4,15 @@ import itertools
 import unittest
 
 from tests.kinds import NOTHINGS, endless, not_skins
-from tests.samples import CUBE, Dice, LOOP, PILLOW, TWIN, all_skins, torus
+from tests.samples import CUBE, Dice, LOOP, PILLOW, TWIN, all_skins, skins_with_vanes, torus
 from tests.walks import distances, gone_by, not_vanes, pairs_of_lots, rooms_by_hand, small_lots, turned_on, walked
 from whirlskin.errors import CanNot, Unfit
 from whirlskin.gaps import by_gap, gap, tight_fields
+from whirlskin.lattice import depth
+from whirlskin.moves import vanes_renamed
 from whirlskin.plans import can_lead, fewest, is_plan, nearest, plan, shift, stuck
 from whirlskin.quarters import behind
+from whirlskin.skins import renamed
 from whirlskin.vanes import all_turned
 from whirlskin.whirls import wish_of
 
@@ -192,6 +195,27 @@ class Larger(unittest.TestCase):
                 seen.add(told)
                 self.assertEqual({gap(skin, vanes, far)[own] for own in tight_fields(skin, vanes)}, {4 * told})
         self.assertGreater(len(seen), 1, seen)
+
+
+    def test_k_by_how_far_field_0_is_turned(self):
+        # The numbers of a PLAN, 0 where FIELDS are TIGHT, less those of the GAP are 4 k: so each k comes up.
+        seen = set()
+        for skin, vanes in skins_with_vanes():
+            told = depth(skin, vanes)
+            for field, (least, most) in enumerate(told or ()):
+                if -4 < least and most < 4:
+                    continue
+                order, turns = (field,) + tuple(own for own in range(len(skin)) if own != field), (0,) * len(skin)
+                first, near = renamed(skin, order, turns), vanes_renamed(skin, vanes, order, turns)
+                for at in (0, 1):
+                    numbers = tuple(depth(first, near)[own][at] for own in range(len(skin)))
+                    far = by_gap(first, near, numbers)
+                    k = -(numbers[0] // 4)
+                    seen.add(k)
+                    self.assertEqual((shift(first, near, far), nearest(first, near, far)), (k, k))
+                    self.assertEqual(fewest(first, near, far), sum(abs(own) for own in numbers))
+                    self.assertEqual(behind(first, near, plan(first, near, far)), far)
+        self.assertLessEqual({-1, 0, 1}, seen)
 
 
 class IsPlan(unittest.TestCase):
